@@ -1,0 +1,89 @@
+// Package hem: settings in a text, read, asked for, and laid out in one way: see DOC.md.
+package hem
+
+import (
+	"errors"
+	"strings"
+
+	"hem/api"
+	"hem/reader"
+	"hem/sheet"
+)
+
+// Doc is settings that were read.
+type Doc struct {
+	sheet *sheet.Sheet // nil in a Doc that Parse did not make
+}
+
+// Parse reads settings (P3).
+func Parse(text string) (doc *Doc, err error) {
+	defer func() {
+		if thrown := recover(); thrown != nil {
+			doc, err = nil, faultOf(thrown)
+		}
+	}()
+	return &Doc{sheet: reader.Read(text)}, nil
+}
+
+// Paths tells the pairs' full paths (P4).
+func (d *Doc) Paths() []string {
+	if d.open() != nil {
+		return nil
+	}
+	var paths []string
+	for _, pair := range d.sheet.Pairs() {
+		paths = append(paths, strings.Clone(pair.Full))
+	}
+	return paths
+}
+
+// Show tells a value's flat text (P4).
+func (d *Doc) Show(path string) (string, error) {
+	pair, err := d.find(path)
+	if err != nil {
+		return "", err
+	}
+	return pair.Value.Flat(), nil
+}
+
+// Get gives a value (P5).
+func Get[T api.Scalar](d *Doc, path string) (T, error) {
+	var none T
+	return none, d.open()
+}
+
+// List gives a list's values (P5).
+func List[T api.Scalar](d *Doc, path string) ([]T, error) { return nil, d.open() }
+
+// Format lays the text out (P6).
+func (d *Doc) Format(width int) (string, error) { return "", d.open() }
+
+// open tells ErrClosed of a Doc that there is nothing in to ask for.
+func (d *Doc) open() error {
+	if d == nil || d.sheet == nil {
+		return &api.Fault{Kind: api.ErrClosed}
+	}
+	return nil
+}
+
+func (d *Doc) find(path string) (*sheet.Pair, error) {
+	if err := d.open(); err != nil {
+		return nil, err
+	}
+	if pair := d.sheet.Find(path); pair != nil {
+		return pair, nil
+	}
+	return nil, &api.Fault{Kind: api.ErrNone}
+}
+
+// faultOf gives the fault with which a reader gave up.
+func faultOf(thrown any) error {
+	if err, ok := thrown.(error); ok {
+		var fault *api.Fault
+		if errors.As(err, &fault) {
+			return fault
+		}
+	}
+	// No call may panic, not even by a slip of the program. A form's fault has a line: without one it shows the slip.
+	return &api.Fault{Kind: api.ErrForm}
+}
