@@ -70,14 +70,6 @@ func TestCallsOfNoDoc(t *testing.T) {
 		for _, path := range []string{"", "a", "\xff"} {
 			flat, err := doc.Show(path)
 			checkClosed(t, "Show", flat, err)
-			number, err := hem.Get[int](doc, path)
-			checkClosed(t, "Get[int]", number, err)
-			truth, err := hem.Get[bool](doc, path)
-			checkClosed(t, "Get[bool]", truth, err)
-			text, err := hem.Get[string](doc, path)
-			checkClosed(t, "Get[string]", text, err)
-			list, err := hem.List[int](doc, path)
-			checkClosed(t, "List[int]", len(list), err)
 		}
 		for _, width := range []int{math.MinInt, -1, 0, 19, 20, 200, 201, math.MaxInt} {
 			text, err := doc.Format(width)
@@ -137,9 +129,15 @@ func TestBytesAreNewMemory(t *testing.T) {
 	}
 }
 
+// parseMemory reads a text in memory that the caller changes afterwards.
+func parseMemory(t *testing.T, memory []byte) *hem.Doc {
+	t.Helper()
+	return parse(t, unsafe.String(&memory[0], len(memory)))
+}
+
 func TestTextIsNotKept(t *testing.T) {
 	memory := []byte("path = \"text\"\n[table]\nname = {key = 1}")
-	doc := parse(t, unsafe.String(&memory[0], len(memory)))
+	doc := parseMemory(t, memory)
 	clear(memory)
 	if paths := doc.Paths(); !slices.Equal(paths, []string{"path", "table.name"}) {
 		t.Errorf("P2: Paths = %q", paths)
@@ -155,6 +153,10 @@ func TestFaultsAreNewMemory(t *testing.T) {
 		func() error { _, err := hem.Parse(strings.Repeat("#", 4001)); return err },
 		func() error { _, err := doc.Show("b"); return err },
 		func() error { _, err := new(hem.Doc).Show("b"); return err },
+		func() error { _, err := hem.Get[int](doc, "b"); return err },
+		func() error { _, err := hem.Get[bool](doc, "a"); return err },
+		func() error { _, err := hem.List[int](doc, "a"); return err },
+		func() error { _, err := hem.List[int](nil, "a"); return err },
 	}
 	for i, call := range calls {
 		first := call().(*api.Fault)

@@ -8,6 +8,7 @@ import (
 	"hem/api"
 	"hem/reader"
 	"hem/sheet"
+	"hem/value"
 )
 
 // Doc is settings that were read.
@@ -48,12 +49,13 @@ func (d *Doc) Show(path string) (string, error) {
 
 // Get gives a value (P5).
 func Get[T api.Scalar](d *Doc, path string) (T, error) {
-	var none T
-	return none, d.open()
+	return ask(d, path, value.Scalar[T])
 }
 
 // List gives a list's values (P5).
-func List[T api.Scalar](d *Doc, path string) ([]T, error) { return nil, d.open() }
+func List[T api.Scalar](d *Doc, path string) ([]T, error) {
+	return ask(d, path, value.Scalars[T])
+}
 
 // Format lays the text out (P6).
 func (d *Doc) Format(width int) (string, error) { return "", d.open() }
@@ -74,6 +76,19 @@ func (d *Doc) find(path string) (*sheet.Pair, error) {
 		return pair, nil
 	}
 	return nil, &api.Fault{Kind: api.ErrNone}
+}
+
+// ask gives a pair's value as what is asked for, or ErrType, if that can't be made of the value.
+func ask[A any](d *Doc, path string, made func(value.Value) (A, bool)) (A, error) {
+	var none A
+	pair, err := d.find(path)
+	if err != nil {
+		return none, err
+	}
+	if answer, ok := made(pair.Value); ok {
+		return answer, nil
+	}
+	return none, &api.Fault{Kind: api.ErrType}
 }
 
 // faultOf gives the fault with which a reader gave up.
