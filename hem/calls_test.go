@@ -18,6 +18,7 @@ func checkAnswer(t *testing.T, text string) {
 	doc, err := hem.Parse(text)
 	if err == nil {
 		checkShownAgain(t, text, doc)
+		checkLaidOut(t, text, api.MinWidth)
 		return
 	}
 	fault, ok := err.(*api.Fault)
@@ -157,11 +158,13 @@ func TestFaultsAreNewMemory(t *testing.T) {
 		func() error { _, err := hem.Get[bool](doc, "a"); return err },
 		func() error { _, err := hem.List[int](doc, "a"); return err },
 		func() error { _, err := hem.List[int](nil, "a"); return err },
+		func() error { _, err := doc.Format(0); return err },
+		func() error { _, err := new(hem.Doc).Format(20); return err },
 	}
 	for i, call := range calls {
 		first := call().(*api.Fault)
 		want := *first
-		*first = api.Fault{Kind: api.ErrWidth, Line: 77}
+		*first = api.Fault{Kind: api.ErrDeep, Line: 77}
 		if second := call().(*api.Fault); *second != want {
 			t.Errorf("P2: call %d: a fault is shared: %v", i, second)
 		}

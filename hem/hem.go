@@ -6,6 +6,7 @@ import (
 	"strings"
 
 	"hem/api"
+	"hem/layout"
 	"hem/reader"
 	"hem/sheet"
 	"hem/value"
@@ -58,7 +59,15 @@ func List[T api.Scalar](d *Doc, path string) ([]T, error) {
 }
 
 // Format lays the text out (P6).
-func (d *Doc) Format(width int) (string, error) { return "", d.open() }
+func (d *Doc) Format(width int) (string, error) {
+	if err := d.open(); err != nil {
+		return "", err
+	}
+	if width < api.MinWidth || width > api.MaxWidth {
+		return "", &api.Fault{Kind: api.ErrWidth}
+	}
+	return layout.Lay(d.sheet, width), nil
+}
 
 // open tells ErrClosed of a Doc that there is nothing in to ask for.
 func (d *Doc) open() error {
